@@ -1,0 +1,74 @@
+"""The interface: names and arguments, each defined in the file under which it is listed."""
+
+import ast
+import importlib
+import inspect
+import os
+import unittest
+
+FOLDER = os.path.join(os.path.dirname(os.path.abspath(__file__)), "..", "packsworn")
+
+CLASSES = {
+    "errors": {
+        "PackError": None, "Wrong": ["place"], "NoVersion": None, "NoRange": ["place"], "NoText": ["line"],
+        "Doubled": ["name", "version"], "NoPack": ["name", "version"], "TooMany": ["most"], "NotThere": ["name"],
+        "PowerCut": None, "NoGeneration": ["number"], "NoCommand": None,
+    },
+}
+
+FUNCTIONS = {
+    "versions": {
+        "is_integer": "thing", "is_version": "thing", "is_name": "thing", "show_version": "version",
+        "read_version": "text", "after": "version", "raised": "version place",
+    },
+    "ranges": {
+        "is_range": "thing", "is_in": "version one", "is_within": "one other", "none_of": "", "all_of": "",
+        "just": "version", "stretch": "low high", "range_of": "versions", "union": "one other", "meet": "one other",
+        "without": "one other", "rest": "one", "kept": "versions one", "least_in": "one",
+        "parting_version": "one other",
+    },
+    "rangetexts": {"read_range": "text", "show_range": "one"},
+    "forms": {
+        "is_lot_of_names": "thing", "is_path": "thing", "is_content": "thing", "is_need": "thing",
+        "is_note": "thing", "is_pack": "thing", "is_registry": "thing", "is_wish": "thing", "is_lock": "thing",
+        "is_case": "thing",
+    },
+    "registry": {
+        "names_of": "registry", "versions_of": "registry name", "pack_of": "registry name version",
+        "feature_of": "pack feature", "is_withdrawn": "registry name version", "paths_clash": "one other",
+        "files_of": "pack", "with_pack": "registry pack", "without_pack": "registry name version",
+        "withdrew": "registry name version", "restored": "registry name version",
+    },
+}
+
+
+def defined(module):
+    """Return the names that a file of the package defines by `def` and by `class`."""
+    with open(os.path.join(FOLDER, module + ".py"), encoding="utf-8") as file:
+        body = ast.parse(file.read()).body
+    return ([node.name for node in body if isinstance(node, ast.FunctionDef)],
+            [node.name for node in body if isinstance(node, ast.ClassDef)])
+
+
+class TestInterface(unittest.TestCase):
+    def test_functions(self):
+        for module, told in FUNCTIONS.items():
+            for name, arguments in told.items():
+                self.assertIn(name, defined(module)[0])
+                call = getattr(importlib.import_module("packsworn." + module), name)
+                self.assertEqual(list(inspect.signature(call).parameters), arguments.split(), name)
+
+    def test_classes(self):
+        for module, told in CLASSES.items():
+            for name, arguments in told.items():
+                self.assertIn(name, defined(module)[1])
+                kind = getattr(importlib.import_module("packsworn." + module), name)
+                if arguments is not None:
+                    self.assertEqual(list(inspect.signature(kind.__init__).parameters)[1:], arguments, name)
+
+    def test_init_is_empty(self):
+        self.assertEqual(os.path.getsize(os.path.join(FOLDER, "__init__.py")), 0)
+
+
+if __name__ == "__main__":
+    unittest.main()
