@@ -5,8 +5,8 @@ import random
 ONE, TWO, THREE = (1, 0, 0), (2, 0, 0), (3, 0, 0)
 EVERY = (((0, 0, 0), None),)
 PLAIN = ((), (), (), (), ())
-RANGES = [EVERY, EVERY, EVERY, ((ONE, TWO),), ((TWO, None),), ((ONE, (1, 0, 1)),), (((0, 0, 0), TWO),), (),
-          ((ONE, (1, 0, 1)), (THREE, None))]
+RANGES = [EVERY] * 12 + [((ONE, TWO),), ((TWO, None),), ((ONE, (1, 0, 1)),), (((0, 0, 0), TWO),), (),
+                         ((ONE, (1, 0, 1)), (THREE, None))]
 FEATURES = ["f", "g", "h"]
 PATHS = ["a", "a-b", "a/b", "a/b/c", "b", "b/a", "c/c"]
 CONTENTS = ["", "x", "a\nb", "\\", "\\n", " in blanks ", "x : y ; (z) # w", "~" * 200]
@@ -18,11 +18,12 @@ def lot(chance, some, most):
 
 
 def some_need(chance, names):
-    return (chance.choice(names), chance.choice(RANGES), lot(chance, FEATURES[:2], 1), chance.random() < 0.5)
+    features = lot(chance, FEATURES, 2) if chance.random() < 0.25 else ()
+    return (chance.choice(names), chance.choice(RANGES), features, chance.random() < 0.5)
 
 
 def some_notes(chance, names, most):
-    return tuple((chance.choice(names), chance.choice(RANGES)) for _ in range(most) if chance.random() < 0.15)
+    return tuple((chance.choice(names), chance.choice(RANGES)) for _ in range(most) if chance.random() < 0.2)
 
 
 def some_needs(chance, names, most):
@@ -39,11 +40,11 @@ def some_files(chance):
 
 def some_pack(chance, name, version, names):
     """Return a pack, most often a small one."""
-    features = sorted(chance.sample(FEATURES, chance.choice([0, 0, 1, 2, 3])))
+    features = sorted(chance.sample(FEATURES, chance.choice([0, 1, 2, 3, 3])))
     told = tuple((feature, lot(chance, features, 1), some_needs(chance, names, 1) if chance.random() < 0.5 else ())
                  for feature in features)
-    files = some_files(chance) if chance.random() < 0.3 else ()
-    return (name, version, some_needs(chance, names, 2), some_notes(chance, names, 1), some_notes(chance, names, 2),
+    files = some_files(chance) if chance.random() < 0.6 else ()
+    return (name, version, some_needs(chance, names, chance.randint(0, 2)), some_notes(chance, names, 1), some_notes(chance, names, 2),
             told, lot(chance, features, 2), files)
 
 
@@ -51,9 +52,8 @@ def some_registry(chance, names):
     """Return a registry of packs of some names."""
     packs = []
     for name in names:
-        for version in lot(chance, [ONE, (1, 5, 0), TWO, THREE], 2):
-            if chance.random() < 0.9:
-                packs.append(some_pack(chance, name, version, names))
+        for version in sorted(chance.sample([ONE, (1, 5, 0), TWO, THREE], chance.choice([0, 1, 2, 2, 3]))):
+            packs.append(some_pack(chance, name, version, names))
     marks = [pack[:2] for pack in packs]
     return tuple(packs), tuple(mark for mark in marks if chance.random() < 0.12)
 
@@ -73,7 +73,7 @@ def some_case(seed):
     chance = random.Random(seed)
     names = ["a", "b", "c", "d"][:chance.randint(1, 4)]
     registry = some_registry(chance, names)
-    wish = some_needs(chance, names, 2)
+    wish = some_needs(chance, names, 3)
     return registry, wish, some_lock(chance, registry, names), chance.choice(["newest", "oldest", "steady"])
 
 

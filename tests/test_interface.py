@@ -39,6 +39,25 @@ FUNCTIONS = {
         "files_of": "pack", "with_pack": "registry pack", "without_pack": "registry name version",
         "withdrew": "registry name version", "restored": "registry name version",
     },
+    "texts": {"show_registry": "registry", "show_wish": "wish", "show_case": "case"},
+    "reader": {"read_registry": "text", "read_wish": "text", "read_case": "text"},
+    "overlays": {
+        "laid_over": "below above", "only_names": "registry names", "changed_by": "registry change",
+        "change_between": "one other",
+    },
+    "demands": {
+        "case_names": "case", "need_of": "case line", "conditions_of": "line", "things_of": "case",
+        "lines_of": "case", "supports": "case",
+    },
+    "reach": {
+        "reach": "case choice", "unreached": "case choice", "ranks": "case choice", "road_to": "case choice thing",
+        "is_road": "case choice thing value", "is_shut": "case choice value",
+    },
+    "plans": {"plan_of": "case choice", "choice_of": "plan", "is_plan": "case thing", "broken": "case choice"},
+    "liking": {
+        "row_of": "case", "liked_options": "case name", "liking": "case plan", "is_ahead": "case one other",
+        "first_unlike": "case one other", "all_plans": "case", "first_by_all": "case",
+    },
 }
 
 

@@ -9,7 +9,8 @@ from tests.language import faults, imports_of
 FOLDER = os.path.join(os.path.dirname(os.path.abspath(__file__)), "..", "packsworn")
 
 # The order in which the document lists the modules: each uses those ahead of it alone.
-ORDER = ["errors", "versions", "ranges", "rangetexts", "forms", "registry"]
+ORDER = ["errors", "versions", "ranges", "rangetexts", "forms", "registry", "texts", "reader", "overlays", "demands",
+         "reach", "plans", "liking"]
 
 BAD = {
     "L2": "import os",
