@@ -6,14 +6,10 @@ from packsworn.rangetexts import range_of_words, words_of
 from packsworn.versions import is_name, version_told
 
 MARKS = ";()"
-PACKS = 0
-WITHDRAWN = 1
-WISHES = 2
-LOCKS = 3
-MODE = 4
+# The lines of a text come by rising stages.
 STAGES = {
-    "pack": PACKS, "needs": PACKS, "peer": PACKS, "bar": PACKS, "feature": PACKS, "extra": PACKS,
-    "default": PACKS, "file": PACKS, "withdrawn": WITHDRAWN, "wish": WISHES, "lock": LOCKS, "mode": MODE,
+    "pack": 0, "needs": 0, "peer": 0, "bar": 0, "feature": 0, "extra": 0, "default": 0, "file": 0,
+    "withdrawn": 1, "wish": 2, "lock": 3, "mode": 4,
 }
 
 
@@ -118,7 +114,7 @@ class Draft:
         self.extras = {}
         self.latest = None
         self.defaults = None
-        self.files = {}
+        self.contents = {}
 
     def lacks_feature(self):
         """Tell whether some feature that is called was not told."""
@@ -128,7 +124,7 @@ class Draft:
     def told_pack(self):
         """Return the PACK that the lines tell."""
         features = [(name, self.alsos[name], tuple(self.extras[name])) for name in sorted(self.alsos)]
-        files = [(path, self.files[path]) for path in sorted(self.files)]
+        files = [(path, self.contents[path]) for path in sorted(self.contents)]
         return (self.name, self.version, tuple(self.needs), tuple(self.peers), tuple(self.bars),
                 tuple(features), self.defaults or (), tuple(files))
 
@@ -159,8 +155,8 @@ def add_default(draft, words, at):
 def add_file(draft, line, at):
     """Add what a `file` line tells."""
     path, content = file_told(line, at)
-    must(not any([paths_touch(path, other) for other in draft.files]), at)
-    draft.files[path] = content
+    must(not any([paths_touch(path, other) for other in draft.contents]), at)
+    draft.contents[path] = content
 
 
 def add_line(draft, word, words, line, at):
@@ -245,7 +241,7 @@ class Reading:
         must(word in STAGES and self.stage <= STAGES[word] <= self.last, at)
         must(self.mode is None, at)
         self.stage = STAGES[word]
-        if word != "pack" and self.stage == PACKS:
+        if word != "pack" and self.stage == STAGES["pack"]:
             must(self.draft is not None, at)
             add_line(self.draft, word, words[1:], line, at)
         else:
@@ -262,22 +258,22 @@ def read_lines(text, stage, last):
     for at, line in enumerate(lines):
         reading.take(line, at)
     reading.end_pack(len(lines))
-    must(last < MODE or reading.mode is not None, len(lines))
+    must(last < STAGES["mode"] or reading.mode is not None, len(lines))
     return reading
 
 
 def read_registry(text):
     """Return the REGISTRY that a text shows; raise NoText(line) if it shows none."""
-    return read_lines(text, PACKS, WITHDRAWN).told_registry()
+    return read_lines(text, STAGES["pack"], STAGES["withdrawn"]).told_registry()
 
 
 def read_wish(text):
     """Return the WISH that a text shows; raise NoText(line) if it shows none."""
-    return tuple(read_lines(text, WISHES, WISHES).wishes)
+    return tuple(read_lines(text, STAGES["wish"], STAGES["wish"]).wishes)
 
 
 def read_case(text):
     """Return the CASE that a text shows; raise NoText(line) if it shows none."""
-    reading = read_lines(text, PACKS, MODE)
+    reading = read_lines(text, STAGES["pack"], STAGES["mode"])
     lock = {name: reading.held[name] for name in sorted(reading.held)}
     return reading.told_registry(), tuple(reading.wishes), lock, reading.mode
