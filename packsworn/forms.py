@@ -78,8 +78,8 @@ def paths_touch(one, other):
 def are_apart(paths):
     """Tell whether no two of some paths touch."""
     # With the least sign for `/`, what begins with a path stands right behind it.
-    row = [path.replace(" ", "/") for path in sorted([path.replace("/", " ") for path in paths])]
-    return not any([paths_touch(row[at], row[at + 1]) for at in range(len(row) - 1)])
+    row = sorted([path.replace("/", " ") for path in paths])
+    return not any([row[at] == row[at + 1] or row[at + 1].startswith(row[at] + " ") for at in range(len(row) - 1)])
 
 
 def is_file(thing):

@@ -152,6 +152,18 @@ class TestPlans(unittest.TestCase):
                 case = case_of(packs, asked("a"), gone, lock, mode)
                 self.assertEqual([broken(case, {"a": ONE}), broken(case, {"a": TWO})], [wanted, None])
 
+    def test_least_names_first(self):
+        packs = [pack(name, peers=(("x", LATE),), bars=(("a", EVERY),)) for name in "abc"]
+        free = [pack(name) for name in "abc"]
+        for keys in ("abc", "cba", "bca"):
+            choice = {name: ONE for name in keys}
+            self.assertEqual(broken(case_of(packs, asked("b", "c", "a")), choice), ("peer", "a", ONE, 0))
+            self.assertEqual(broken(case_of(free, asked("a", "b", "c"), (("b", ONE), ("c", ONE))), choice),
+                             ("withdrawn", "b", ONE))
+            plan = {name: (ONE, ("f",)) for name in keys}
+            self.assertEqual(list(choice_of(plan).items()), [("a", ONE), ("b", ONE), ("c", ONE)])
+            self.assertEqual(list(plan_of(case_of(free, asked("c", "a", "b")), choice)), ["a", "b", "c"])
+
     def test_order_of_breaks(self):
         packs = [pack("a", ONE, (("b", LATE, ("z",), True),), (("x", EVERY),), (("b", EVERY),), files=(("p", ""),)),
                  pack("b", files=(("p", ""),)), pack("b", TWO, features=(("z", (), ()),), files=(("p", ""),)), pack("c")]
