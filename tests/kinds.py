@@ -69,7 +69,7 @@ def bent(value):
 
 def same(one, other):
     """Tell whether two values are the same, True and 1 being different."""
-    if type(one) is not type(other):
+    if type(one) is not type(other) or one != other:
         return False
     if isinstance(one, (tuple, list)):
         return len(one) == len(other) and all(same(a, b) for a, b in zip(one, other))

@@ -100,3 +100,29 @@ def full_case():
     registry = (packs, (("app", TWO), ("lib", ONE)))
     wish = (("app", EVERY, ("fast",), True), ("none-such", (), (), False))
     return registry, wish, {"app": (ONE, ("fast", "small")), "gone": (THREE, ())}, "steady"
+
+
+def keen_need(chance, names):
+    features = lot(chance, FEATURES, 2) if chance.random() < 0.6 else ()
+    return (chance.choice(names), chance.choice(RANGES[8:]), features, chance.random() < 0.3)
+
+
+def keen_pack(chance, name, version, names):
+    """Return a pack in which features do much."""
+    features = FEATURES if chance.random() < 0.8 else FEATURES[:chance.randint(0, 2)]
+    told = tuple((feature, lot(chance, features, 2), tuple(keen_need(chance, names) for _ in range(chance.choice([0, 0, 1]))))
+                 for feature in features)
+    needs = tuple(keen_need(chance, names) for _ in range(chance.choice([0, 0, 1, 2])))
+    return (name, version, needs, some_notes(chance, names, 1), some_notes(chance, names, 1), told, lot(chance, features, 2),
+            some_files(chance) if chance.random() < 0.4 else ())
+
+
+def keen_case(seed):
+    """Return the case with a number, of few names; its features call each other, and other names."""
+    chance = random.Random(seed)
+    names = ["a", "b", "c"][:chance.randint(1, 3)]
+    packs = tuple(keen_pack(chance, name, version, names) for name in names
+                  for version in sorted(chance.sample([ONE, (1, 0, 1), TWO, THREE], chance.choice([1, 2, 2, 3]))))
+    registry = packs, tuple(pack[:2] for pack in packs if chance.random() < 0.1)
+    wish = tuple(keen_need(chance, names) for _ in range(chance.choice([1, 1, 2])))
+    return registry, wish, some_lock(chance, registry, names), chance.choice(["newest", "oldest", "steady"])

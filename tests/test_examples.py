@@ -35,9 +35,9 @@ class TestExamples(unittest.TestCase):
         with open(README, encoding="utf-8") as file:
             blocks = re.findall(r"```\n(>>>.*?)```", file.read(), re.S)
         self.assertTrue(blocks)
-        for text in blocks:
-            test = doctest.DocTestParser().get_doctest(text, {}, "README.md", "README.md", 0)
-            self.assertEqual(doctest.DocTestRunner(verbose=False).run(test).failed, 0)
+        # A later block goes on with what the earlier ones have defined.
+        test = doctest.DocTestParser().get_doctest("\n".join(blocks), {}, "README.md", "README.md", 0)
+        self.assertEqual(doctest.DocTestRunner(verbose=False).run(test).failed, 0)
 
     @unittest.skipUnless(os.path.exists(DOCUMENT), "the document does not stand beside the project")
     def test_they_are_those_of_the_document(self):

@@ -58,6 +58,21 @@ FUNCTIONS = {
         "row_of": "case", "liked_options": "case name", "liking": "case plan", "is_ahead": "case one other",
         "first_unlike": "case one other", "all_plans": "case", "first_by_all": "case",
     },
+    "clauses": {
+        "variables_of": "case", "options_of": "case variable", "gives": "plan variable", "is_clause": "case thing",
+        "clause_holds": "clause plan", "made_clause": "rows", "joined": "one other variable",
+    },
+    "axioms": {"axiom_clause": "case thing", "plain_axioms": "case", "loop_for": "case plan things thing"},
+    "judge": {
+        "clauses_of": "case steps", "trimmed": "steps kept", "is_derivation": "case thing", "is_none_paper": "case thing",
+        "is_first_paper": "case plan thing", "passed": "case plan", "axioms_used": "steps",
+    },
+    "narrowing": {
+        "sequence_of": "case", "liked": "case variable", "narrowed": "case choices", "domains_of": "case choices",
+        "is_narrowed": "case choices thing",
+    },
+    "blaming": {"blame": "case choices trail failed"},
+    "solver": {"going_on": "case choices", "answer": "case", "first_plan": "case", "is_answer": "case thing"},
 }
 
 
