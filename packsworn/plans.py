@@ -101,6 +101,11 @@ def held_version(lock, name):
     return lock[name][0] if name in lock else None
 
 
+def lock_copy(lock):
+    """Return a new dict with what a lock has, its names ascending."""
+    return {name: lock[name] for name in sorted(lock)}
+
+
 def taken_back(grounds, choice, _):
     """Return the break that a pack chosen is withdrawn and not the one of the lock."""
     for name in sorted(choice):

@@ -69,10 +69,12 @@ def bent(value):
 
 def same(one, other):
     """Tell whether two values are the same, True and 1 being different."""
+    if one is other:
+        return True
     if type(one) is not type(other) or one != other:
         return False
     if isinstance(one, (tuple, list)):
-        return len(one) == len(other) and all(same(a, b) for a, b in zip(one, other))
+        return all(map(same, one, other))
     if isinstance(one, dict):
         return set(one) == set(other) and all(same(one[key], other[key]) for key in one)
     return one == other

@@ -20,6 +20,7 @@ def is_lot(value):
     return type(value) is tuple and all(order(one) < order(other) for one, other in zip(value, value[1:]))
 
 
+@slow.remembered
 def variables(case):
     """Return the dict from the variables to the lists of their options."""
     found = {(name,): slow.options(case, name) for name in slow.names(case)}

@@ -4,10 +4,26 @@ import functools
 import itertools
 
 
+def remembered(call):
+    """Return a call that goes through a case only once; it is for what registry and wish alone tell."""
+    known = {}
+
+    def told(case):
+        # What is kept here is not given back, so that no other registry or wish comes to stand at its place.
+        key = (id(case[0]), id(case[1]))
+        if key not in known:
+            if len(known) > 500:
+                known.clear()
+            known[key] = (case[0], case[1], call(case))
+        return known[key][2]
+    return told
+
+
 def is_plainly_in(version, one):
     return any(low <= version and (high is None or version < high) for low, high in one)
 
 
+@remembered
 def needs_with_conditions(case):
     """Return a list of (line, conditions, need) in the order of the lines."""
     found = [(("wish", at), frozenset(), need) for at, need in enumerate(case[1])]
@@ -20,6 +36,7 @@ def needs_with_conditions(case):
     return found
 
 
+@remembered
 def names(case):
     found = {need[0] for _, _, need in needs_with_conditions(case)}
     for pack in case[0][0]:
@@ -27,6 +44,7 @@ def names(case):
     return sorted(found)
 
 
+@remembered
 def things(case):
     found = {(name,) for name in names(case)}
     found |= {(need[0], feature) for _, _, need in needs_with_conditions(case) for feature in need[2]}
@@ -34,6 +52,7 @@ def things(case):
     return sorted(found)
 
 
+@remembered
 def supports(case):
     """Return the set of the supports, conditions being frozensets."""
     found = set()

@@ -72,6 +72,28 @@ FUNCTIONS = {
         "is_narrowed": "case choices thing",
     },
     "blaming": {"blame": "case choices trail failed"},
+    "cores": {
+        "with_wishes": "case lot", "bad_lots": "case", "good_lots": "case", "dropped_lots": "case", "blamed": "case steps",
+    },
+    "words": {"tell": "case steps", "read_told": "case text"},
+    "helps": {"had_versions": "case index", "lifted_withdrawals": "case", "nearest_wishes": "case"},
+    "locks": {
+        "show_lock": "lock", "read_lock": "text", "changes_between": "one other", "changed_lock": "lock changes",
+        "change_word": "before after",
+    },
+    "upgrades": {
+        "with_mode": "case mode", "with_lock": "case lock", "freed": "case names", "held_at": "case names",
+        "none_lower": "case names", "pinned": "case name version", "upgraded": "case names",
+        "versions_to_have": "case name", "least_to_free": "case name version",
+    },
+    "whys": {
+        "held_lines": "case plan", "needers": "case plan name", "rings": "case plan", "why_there": "case plan name",
+        "leaning": "case plan name",
+    },
+    "orders": {
+        "install_order": "case plan", "rounds": "case plan", "longest_chain": "case plan",
+        "is_install_order": "case plan thing", "is_chain": "case plan thing",
+    },
     "solver": {"going_on": "case choices", "answer": "case", "first_plan": "case", "is_answer": "case thing"},
 }
 

@@ -11,7 +11,8 @@ FOLDER = os.path.join(os.path.dirname(os.path.abspath(__file__)), "..", "packswo
 # The order in which the document lists the modules, with the package's own ones between them: each uses those ahead
 # of it alone.
 ORDER = ["errors", "versions", "ranges", "rangetexts", "forms", "registry", "texts", "reader", "overlays", "demands",
-         "reach", "plans", "liking", "clauses", "axioms", "judge", "watching", "narrowing", "blaming", "solver"]
+         "reach", "plans", "liking", "clauses", "axioms", "judge", "watching", "narrowing", "blaming", "solver",
+         "cores", "words", "helps", "locks", "upgrades", "whys", "orders"]
 
 BAD = {
     "L2": "import os",
