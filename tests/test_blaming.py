@@ -7,7 +7,7 @@ from packsworn.judge import clauses_of, is_derivation, is_none_paper
 from packsworn.narrowing import narrowed
 from tests import papers
 from tests.kinds import calls_alike, same
-from tests.samples import EVERY, ONE, TWO
+from tests.samples import EVERY, ONE, THREE, TWO
 from tests.small import LATE, asked, case_of, pack
 from tests.test_narrowing import as_told, chosen
 
@@ -60,6 +60,14 @@ class TestBlame(unittest.TestCase):
         steps = blame(case, {("a",): ONE}, trail, ("range", ("need", "b", ONE, 0)))
         self.assertEqual(clauses_of(case, steps)[-1], ((("a",), (None,)),))
         self.assertNotIn(("axiom", ("range", ("wish", 1))), steps)
+
+    def test_other_options_of_a_variable_are_not_joined(self):
+        packs = [pack("a"), pack("a", TWO), pack("a", THREE)]
+        case = case_of(packs, (("a", ((TWO, THREE),), (), True),), (("a", TWO), ("a", THREE)))
+        wish, two, three = ("range", ("wish", 0)), ("withdrawn", "a", TWO), ("withdrawn", "a", THREE)
+        steps = blame(case, {}, ((("a",), two), (("a",), three)), wish)
+        self.assertEqual(steps, (("axiom", wish), ("axiom", two), ("join", 0, 1, ("a",))))
+        self.assertEqual(clauses_of(case, steps)[-1], ())
 
     def test_features(self):
         fast = pack("a", features=(("f", ("g",), ()), ("g", (), (("b", LATE, (), True),))))

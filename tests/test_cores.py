@@ -5,9 +5,10 @@ import random
 import unittest
 
 from packsworn.cores import bad_lots, blamed, dropped_lots, good_lots, with_wishes
-from packsworn.solver import answer
+from packsworn.solver import answer, first_plan
 from tests import papers, slow
 from tests.kinds import calls_alike, same
+from tests.large import tight_case, wide_case
 from tests.samples import EVERY, ONE, TWO
 from tests.small import EARLY, EMPTY, LATE, asked, case_of, pack, rows
 from tests.test_judge import derivations
@@ -95,6 +96,19 @@ class TestLots(unittest.TestCase):
         packs = [pack(name, ONE, need) for name, need in zip("abc", needs)] + [pack("x", (at, 0, 0)) for at in (1, 2, 3)]
         case = case_of(packs, asked("a", "b", "c"))
         self.assertEqual([bad_lots(case), good_lots(case), dropped_lots(case)], [[(0, 1, 2)], [(0, 1), (0, 2), (1, 2)], [(0,), (1,), (2,)]])
+
+    def test_large(self):
+        seen = set()
+        for case in (tight_case(0, 0.88), wide_case(1, 0.6, 5)):
+            stands = {lot: first_plan(asked_alone(case, lot)) is not None for lot in lots(5)}
+            for lot in bad_lots(case):
+                self.assertFalse(stands[lot])
+                self.assertTrue(all(stands[other] for other in stands if set(other) < set(lot)))
+            for lot in good_lots(case):
+                self.assertTrue(stands[lot])
+                self.assertFalse(any(stands[other] for other in stands if set(lot) < set(other)))
+            seen |= set(stands.values())
+        self.assertEqual(seen, {True, False})
 
     def test_with_wishes(self):
         for at, (case, _, _) in enumerate(rows()):
