@@ -14,6 +14,12 @@ CLASSES = {
         "Doubled": ["name", "version"], "NoPack": ["name", "version"], "TooMany": ["most"], "NotThere": ["name"],
         "PowerCut": None, "NoGeneration": ["number"], "NoCommand": None,
     },
+    "disk": {"Disk": ["files"]},
+}
+
+# The methods that the interface lists; each stands in the body of its class.
+METHODS = {
+    "disk": {"Disk": {"do": "deeds", "fuse": "many signs", "power": "", "has_power": "", "files": "", "twin": "", "__eq__": "other"}},
 }
 
 FUNCTIONS = {
@@ -94,6 +100,15 @@ FUNCTIONS = {
         "install_order": "case plan", "rounds": "case plan", "longest_chain": "case plan",
         "is_install_order": "case plan thing", "is_chain": "case plan thing",
     },
+    "disk": {"after": "files deeds", "cut": "files deeds many signs", "all_cuts": "files deeds"},
+    "store": {"kept": "files", "keeping": "files contents", "unshelving": "files contents"},
+    "trees": {"tree_of": "registry plan", "tree_on": "files", "steps_between": "old new"},
+    "journal": {"log_text": "log", "read_log": "text"},
+    "installer": {"install_deeds": "files registry plan", "mend_deeds": "files", "meant": "files", "is_calm": "files"},
+    "cuts": {
+        "install_cut": "files registry plan many signs", "mended": "files", "mended_after": "files cuts",
+        "is_behind": "files registry plan many",
+    },
     "solver": {"going_on": "case choices", "answer": "case", "first_plan": "case", "is_answer": "case thing"},
 }
 
@@ -121,6 +136,14 @@ class TestInterface(unittest.TestCase):
                 kind = getattr(importlib.import_module("packsworn." + module), name)
                 if arguments is not None:
                     self.assertEqual(list(inspect.signature(kind.__init__).parameters)[1:], arguments, name)
+
+    def test_methods(self):
+        for module, classes in METHODS.items():
+            for name, methods in classes.items():
+                kind = getattr(importlib.import_module("packsworn." + module), name)
+                for method, arguments in methods.items():
+                    self.assertIn(method, vars(kind), name)
+                    self.assertEqual(list(inspect.signature(vars(kind)[method]).parameters), ["self"] + arguments.split(), method)
 
     def test_init_is_empty(self):
         self.assertEqual(os.path.getsize(os.path.join(FOLDER, "__init__.py")), 0)

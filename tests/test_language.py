@@ -12,7 +12,8 @@ FOLDER = os.path.join(os.path.dirname(os.path.abspath(__file__)), "..", "packswo
 # of it alone.
 ORDER = ["errors", "versions", "ranges", "rangetexts", "forms", "registry", "texts", "reader", "overlays", "demands",
          "reach", "plans", "liking", "clauses", "axioms", "judge", "watching", "narrowing", "blaming", "solver",
-         "cores", "words", "helps", "locks", "upgrades", "whys", "orders"]
+         "cores", "words", "helps", "locks", "upgrades", "whys", "orders", "disk", "store", "trees", "journal", "installer",
+         "cuts"]
 
 BAD = {
     "L2": "import os",
