@@ -14,12 +14,19 @@ CLASSES = {
         "Doubled": ["name", "version"], "NoPack": ["name", "version"], "TooMany": ["most"], "NotThere": ["name"],
         "PowerCut": None, "NoGeneration": ["number"], "NoCommand": None,
     },
-    "disk": {"Disk": ["files"]},
+    "disk": {"Disk": ["files"]}, "house": {"House": ["files"]}, "desk": {"Desk": ["files"]},
 }
 
 # The methods that the interface lists; each stands in the body of its class.
 METHODS = {
     "disk": {"Disk": {"do": "deeds", "fuse": "many signs", "power": "", "has_power": "", "files": "", "twin": "", "__eq__": "other"}},
+    "house": {"House": {
+        "fuse": "many signs", "power": "", "start": "", "publish": "text", "withdraw": "name version", "restore": "name version",
+        "wish_for": "text", "back": "number", "collect": "numbers", "repair": "", "install": "mode", "wish": "", "case_of": "mode",
+        "has_power": "", "registry": "", "files": "", "tree": "", "lock": "", "lock_text": "", "numbers": "", "findings": "",
+        "tree_of_number": "number", "twin": "", "__eq__": "other",
+    }},
+    "desk": {"Desk": {"execute": "line", "house": ""}},
 }
 
 FUNCTIONS = {
@@ -108,6 +115,20 @@ FUNCTIONS = {
     "cuts": {
         "install_cut": "files registry plan many signs", "mended": "files", "mended_after": "files cuts",
         "is_behind": "files registry plan many",
+    },
+    "generations": {
+        "manifest_text": "manifest", "read_manifest": "text", "manifest_at": "files number", "tree_at": "files number",
+        "generations": "files", "sound_ones": "files", "record_deeds": "files", "rollback_deeds": "files number",
+    },
+    "collecting": {"collect_deeds": "files numbers", "spare_shelves": "files"},
+    "lookover": {"look_over": "files registry", "repair_deeds": "files registry"},
+    "lastings": {
+        "long_clause": "case thing", "long_joined": "one other variable", "long_clauses": "case steps", "helpers": "case steps other",
+        "long_holds": "clause plan", "is_later": "case other", "still_none": "case steps other", "what_can_help": "case steps",
+    },
+    "releases": {
+        "released_as": "pack version", "slim": "pack kept", "slim_release": "case plan name version", "with_release": "case pack",
+        "limits_of": "case plan name", "room_for": "case plan name", "drops_in": "case plan name version",
     },
     "solver": {"going_on": "case choices", "answer": "case", "first_plan": "case", "is_answer": "case thing"},
 }

@@ -62,7 +62,7 @@ class TestJournal(unittest.TestCase):
         self.assertEqual(read_log("log 0\nlock store/c7"), ((), "store/c7"))
         twice = (("put", "a", "store/c0"), ("drop", "a"), ("drop", "a"), ("put", "a", "store/c0"))
         self.assertEqual(read_log(log_text((twice, "store/c0"))), (twice, "store/c0"))
-        for text in ("", "log 0", "log 0\nlock -", "log 00\nlock store/c0", "log 1\nlock store/c0", "log 0\ndrop a\nlock store/c0",
+        for text in ("", "log 0", "log -1", "log", "log 0\nlock -", "log 00\nlock store/c0", "log 1\nlock store/c0", "log 0\ndrop a\nlock store/c0",
                      "log 1\ndrop a b\nlock store/c0", "log 1\nput a\nlock store/c0", "log 1\ndrop A\nlock store/c0", "log -1\nlock store/c0",
                      "log 0\nlock  store/c0", "log 0 \nlock store/c0", "log 0\nlock store/c0\n", "log 0\nlock store/c0 x", "Log 0\nlock store/c0",
                      "log 1\nput a store/c01\nlock store/c0", "log 1\nput a store/new\nlock store/c0", "log 1\nmove a b\nlock store/c0",

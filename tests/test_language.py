@@ -13,7 +13,7 @@ FOLDER = os.path.join(os.path.dirname(os.path.abspath(__file__)), "..", "packswo
 ORDER = ["errors", "versions", "ranges", "rangetexts", "forms", "registry", "texts", "reader", "overlays", "demands",
          "reach", "plans", "liking", "clauses", "axioms", "judge", "watching", "narrowing", "blaming", "solver",
          "cores", "words", "helps", "locks", "upgrades", "whys", "orders", "disk", "store", "trees", "journal", "installer",
-         "cuts"]
+         "cuts", "generations", "collecting", "lookover", "lastings", "releases", "house", "desk"]
 
 BAD = {
     "L2": "import os",
