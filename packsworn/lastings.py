@@ -33,7 +33,7 @@ def option_told(option):
 def long_denied(condition):
     """Return the row that a condition is denied."""
     variable, option = condition
-    return variable, (False,) if len(variable) == 2 else not_within(just(option))
+    return variable, ((False,) if len(variable) == 2 else not_within(just(option)))
 
 
 def rows_of_line(grounds, name):

@@ -4,7 +4,7 @@ import random
 import unittest
 
 from packsworn.cuts import install_cut, is_behind, mended, mended_after
-from packsworn.disk import after, all_cuts, cut
+from packsworn.disk import after, all_cuts
 from packsworn.installer import install_deeds, meant, mend_deeds
 from tests import disks
 from tests.kinds import calls_alike, same
@@ -29,6 +29,17 @@ def some_cuts(chance, files, most):
     return cuts, files
 
 
+def all_behind(lefts):
+    """Return all that mendings can leave that are cut anywhere, one behind the other, where one of some files stands."""
+    row, seen = list(lefts), set()
+    for files in row:
+        key = frozenset(files.items())
+        if key not in seen:
+            seen.add(key)
+            row.extend(all_cuts(files, mend_deeds(files)))
+    return [dict(key) for key in seen]
+
+
 class TestEachCut(unittest.TestCase):
     def check_left(self, left, start, wanted):
         """Check what a mending makes of what cuts have left."""
@@ -41,29 +52,28 @@ class TestEachCut(unittest.TestCase):
         self.assertTrue("log" not in done and "log-new" not in done)
 
     def check(self, files, registry, plan, chance):
-        """Check all cuts of an installing; behind each, all cuts of a mending, and some of up to three."""
+        """Check all cuts of an installing, and behind each of them all rows of mendings that are cut, however many."""
         deeds = install_deeds(files, registry, plan)
         place = deeds.index(LOG_MOVE)
         old, new = disks.meant(files), (disks.tree_of(registry, plan), disks.show_lock(plan))
         ways, lefts = disks.ways_to_cut(deeds), all_cuts(files, deeds)
         self.assertEqual(len(ways), len(lefts))
-        for (many, signs), left in zip(ways, lefts):
-            wanted = new if many > place else old
-            self.check_left(left, files, wanted)
-            for way in disks.ways_to_cut(mend_deeds(left)):
-                self.check_left(cut(left, mend_deeds(left), way[0], way[1]), files, wanted)
-            cuts, last = some_cuts(chance, left, 3)
-            self.check_left(last, files, wanted)
-            self.assertEqual(mended_after(left, cuts), mended(left))
+        for is_new, wanted in ((False, old), (True, new)):
+            told = [left for (many, _), left in zip(ways, lefts) if (many > place) is is_new]
+            for left in all_behind(told):
+                self.check_left(left, files, wanted)
+            for left in told:
+                cuts, last = some_cuts(chance, left, 3)
+                self.assertEqual([mended_after(left, cuts), mended(last)], [mended(left)] * 2)
         return old != new
 
     def test_on_disks_of_chance(self):
         many = 0
-        for seed in range(45):
+        for seed in range(30):
             chance = random.Random(seed)
             registry = disks.some_registry(chance)
             many += self.check(disks.some_disk(seed), registry, disks.some_plan(chance, registry), chance)
-        self.assertGreater(many, 30)
+        self.assertGreater(many, 20)
 
     def test_from_plan_to_plan(self):
         chance, many = random.Random(0), 0

@@ -43,8 +43,7 @@ class TestExamples(unittest.TestCase):
     def test_they_are_those_of_the_document(self):
         with open(DOCUMENT, encoding="utf-8") as file:
             blocks = re.findall(r"```\n(.*?)```", file.read(), re.S)
-        for name, text in texts().items():
-            self.assertIn(text, blocks, name)
+        self.assertEqual(sorted(texts().values()), sorted(blocks))
 
 
 if __name__ == "__main__":
